@@ -1,0 +1,1 @@
+"""Turnweave: ways of turning shapes, moved behind one another."""
