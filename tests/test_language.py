@@ -28,6 +28,11 @@ NODES = set(
     " Compare Eq NotEq Lt LtE Gt GtE Is IsNot In NotIn IfExp Call keyword ListComp comprehension JoinedStr"
     " FormattedValue".split()
 )
+NOWHERE = set(
+    "register mro elements open input version_info with_traceback add_note attrgetter breakpoint builtins compile"
+    " copyright credits delattr dir eval exec exit gc getattr globals hasattr help id importlib license locals"
+    " methodcaller os quit setattr super type vars sys format format_map".split()
+)
 METHODS_WITH_UNDERSCORES = ("__init__", "__eq__", "__repr__", "__str__", "__len__")
 
 
@@ -46,6 +51,21 @@ def package_nodes():
         for node in ast.walk(tree):
             found.append((f"{name}, line {getattr(node, 'lineno', 1)}", node))
     return found
+
+
+def drawn_from(tree):
+    return [node.module.partition(".")[2] for node in tree.body if isinstance(node, ast.ImportFrom)]
+
+
+def bound_names(node):
+    """The names that a node binds, but for those of defs, classes and imports."""
+    if isinstance(node, ast.Name) and isinstance(node.ctx, ast.Store):
+        return [node.id]
+    if isinstance(node, ast.arg):
+        return [node.arg]
+    if isinstance(node, ast.ExceptHandler) and node.name:
+        return [node.name]
+    return []
 
 
 def defined_names(path):
@@ -119,6 +139,50 @@ class LanguageTest(unittest.TestCase):
                 self.assertFalse(hasattr(builtins, node.id) or node.id.startswith("_"), where)
             if isinstance(node, ast.arg):
                 self.assertFalse(hasattr(builtins, node.arg) or node.arg.startswith("_"), where)
+
+    def test_no_local_is_called_like_an_import_or_a_def_of_its_file(self):
+        for name, tree in package_trees():
+            taken = [alias.name for node in tree.body if isinstance(node, ast.ImportFrom) for alias in node.names]
+            defs = [node.name for node in tree.body if isinstance(node, (ast.ClassDef, ast.FunctionDef))]
+            tops = [one for node in tree.body if isinstance(node, ast.Assign) for one in bound_names(node.targets[0])]
+            self.assertEqual(len(set(taken + defs + tops)), len(taken + defs + tops), name)
+            for node in tree.body:
+                if isinstance(node, (ast.ClassDef, ast.FunctionDef)):
+                    locals_of = [one for inner in ast.walk(node) for one in bound_names(inner)]
+                    self.assertEqual(set(locals_of) & set(taken + defs + tops), set(), name)
+
+    def test_no_two_files_draw_from_one_another(self):
+        drawn = {path.stem: drawn_from(ast.parse(path.read_text(encoding="utf-8"))) for path in package_files()}
+        while drawn:
+            free = [name for name in drawn if not set(drawn[name]) & set(drawn)]
+            self.assertNotEqual(free, [], "these draw from one another: " + ", ".join(drawn))
+            drawn = {name: drawn[name] for name in drawn if name not in free}
+
+    def test_names_that_are_not_used(self):
+        for where, node in package_nodes():
+            names = bound_names(node)
+            if isinstance(node, (ast.FunctionDef, ast.ClassDef)):
+                names.append(node.name)
+            if isinstance(node, ast.Name):
+                names.append(node.id)
+            if isinstance(node, ast.Attribute):
+                names.append(node.attr)
+            self.assertEqual(set(names) & NOWHERE, set(), where)
+
+    def test_targets_are_plain(self):
+        for where, node in package_nodes():
+            if isinstance(node, ast.Assign):
+                self.assertNotIsInstance(node.targets[0], (ast.Tuple, ast.List), where)
+
+    def test_no_name_is_a_method_and_a_value(self):
+        methods = set()
+        values = set()
+        for _, node in package_nodes():
+            if isinstance(node, ast.ClassDef):
+                methods.update(inner.name for inner in node.body if isinstance(inner, ast.FunctionDef))
+            if isinstance(node, ast.Attribute) and isinstance(node.ctx, ast.Store):
+                values.add(node.attr)
+        self.assertEqual(methods & values, set())
 
     def test_methods(self):
         own = [node.name for _, node in package_nodes() if isinstance(node, ast.FunctionDef)]

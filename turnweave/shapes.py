@@ -28,15 +28,29 @@ def depth(t):
     level = [t]
     while level:
         count += 1
-        below = []
-        for thing in level:
-            below.extend(parts_of(thing))
-        level = below
+        level = parts_of_all(level)
     return count
 
 
+def parts_of_all(things):
+    found = []
+    for thing in things:
+        found.extend(parts_of(thing))
+    return found
+
+
+# It stops as soon as it can tell: the goal of a way may be far too heavy to be walked through.
 def is_small(t):
-    return weight(t) <= MOST_HEAVY and depth(t) <= MOST_DEEP
+    heavy = 0
+    deep = 0
+    level = [t]
+    while level:
+        heavy += len(level)
+        deep += 1
+        if heavy > MOST_HEAVY or deep > MOST_DEEP:
+            return False
+        level = parts_of_all(level)
+    return True
 
 
 def places(t):
