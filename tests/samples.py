@@ -4,8 +4,10 @@ import itertools
 import random
 
 from turnweave.books import book_of
+from turnweave.errors import TooGreat
 from turnweave.texts import read_turning, read_way
 from turnweave.uses import open_uses, way_of
+from turnweave.ways import goal
 
 
 def book(*texts):
@@ -25,6 +27,8 @@ MIXED = book(
 # One turning makes a shape heavier and deeper by one, the other one lighter and shallower by one.
 SIZES = book("Up: d(?0) > e(e(?0))", "Down: i(j(?0)) > d(?0)")
 WIDE = book("Wide: w(?0) > f(?0,?0,?0,?0,?0,?0,?0,?0,?0,?0,?0)", "Drop: k(?0,?1) > ?1")
+# What one of them makes great another one cuts off again.
+CUTTING = book("Twice: g(?0) > f(?0,?0)", "Cut: f(?0,?1) > ?0", "Up: d(?0) > e(e(?0))", "Big: y > x(z,z,z,z,z,z,z,z,z,z,z)")
 COUNTS = {"f": 2, "g": 1, "k": 2, "s": 2, "m": 1, "u": 3, "h": 2, "n": 0, "a": 0, "b": 0, "c": 0, "d": 0}
 
 SHAPES = [read_way(text) for text in (
@@ -66,3 +70,28 @@ def random_way(chance, book, shape):
 def chance_of(number):
     """A source of choices that makes the same ones on each run."""
     return random.Random(number)
+
+
+def random_road(chance, book, shape, count):
+    """A road of at most so many ways: it stops ahead of a goal that isn't small."""
+    ways = []
+    here = shape
+    for _ in range(count):
+        way = random_way(chance, book, here)
+        try:
+            here = goal(book, way)
+        except TooGreat:
+            break
+        ways.append(way)
+    return (shape, ways)
+
+
+def all_roads(book, shape, count):
+    """All roads of just so many ways from the shape."""
+    if count == 0:
+        return [(shape, [])]
+    return [
+        (shape, ways + [way])
+        for _, ways in all_roads(book, shape, count - 1)
+        for way in all_ways(book, goal(book, ways[-1]) if ways else shape)
+    ]
