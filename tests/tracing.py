@@ -2,7 +2,7 @@
 
 from turnweave.shapes import part, places
 from turnweave.texts import is_title
-from turnweave.uses import open_uses, uses, way_of
+from turnweave.uses import uses, way_of
 from turnweave.ways import goal, source
 
 
@@ -57,10 +57,6 @@ def use_places(book, way):
 def traced_behind(book, way, other):
     """The first way behind the second one: the way from the second one's goal with what is left of the first's uses."""
     return way_of(book, goal(book, other), places_behind(book, use_places(book, way), other))
-
-
-def single_ways(book, shape):
-    return [way_of(book, shape, [place]) for place, _ in open_uses(book, shape)]
 
 
 def one_step(book, way, place):

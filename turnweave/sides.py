@@ -11,6 +11,10 @@ def blanks(side):
     return [part(side, place) for place in blank_places(side)]
 
 
+def places_of_blank(side, number):
+    return [place for place in blank_places(side) if part(side, place) == number]
+
+
 def filled(side, things):
     if isinstance(side, int):
         return things[side]

@@ -1,10 +1,11 @@
-"""The texts of shapes, sides, ways and turnings: how they are written, and how they are read."""
+"""The texts of shapes, sides, ways, turnings and places: how they are written, and how they are read."""
 
 from turnweave.errors import NoText
 from turnweave.shapes import MOST_DEEP, is_small
 
 MOST_LETTERS = 8
 MOST_SIGNS = 4000
+TOP = "top"
 
 
 def is_sign(text):
@@ -118,9 +119,27 @@ class Reader:
         return tuple(found)
 
 
-# Python's isdigit would let figures of other alphabets through.
 def is_blank_text(word):
-    figures = word[1:]
-    if word[:1] != "?" or not all(["0" <= figure <= "9" for figure in figures]):
+    return word[:1] == "?" and is_short_number(word[1:])
+
+
+# Python's isdigit would let figures of other alphabets through.
+def is_short_number(figures):
+    if not all(["0" <= figure <= "9" for figure in figures]):
         return False
     return len(figures) == 1 or (len(figures) == 2 and figures[0] != "0")
+
+
+def shown_place(place):
+    if place == ():
+        return TOP
+    return ".".join([shown_number(number) for number in place])
+
+
+def read_place(text):
+    if text == TOP:
+        return ()
+    words = text.split(".")
+    if not all([is_short_number(word) for word in words]):
+        raise NoText("this is no place's text")
+    return tuple([int(word) for word in words])
